@@ -1,0 +1,1 @@
+"""Everycount: texts written by loops, decided for every count."""
