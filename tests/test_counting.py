@@ -121,7 +121,7 @@ class CountsOf(unittest.TestCase):
 
     def test_none(self):
         program = (1, (text("a"), loop((1, 2), text("bc"))))
-        for told in ("", "a", "abcbc", "abcbcbcb", "abcbcbd", "zzz", "b" * 40):
+        for told in ("", "a", "aaa", "abb", "abd", "zzz", "abcbc", "abcbcbcb", "abcbcbb", "abcbcbd", "b" * 40):
             self.assertEqual(counts_of(program, told), ())
 
     def test_several_ascending(self):
