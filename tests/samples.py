@@ -181,3 +181,156 @@ def deep_loops(depth, k=1):
     for _ in range(depth - 1):
         parts = (("loop", (1,) + (0,) * k, parts),)
     return (k, (("loop", (0, 1) + (0,) * (k - 1), parts),))
+
+
+def slow_move(row, move):
+    """The row behind one move, told rule by rule as [12] does; None if it cannot be made."""
+    k, texts, loops = row
+    kind, j = move[0], move[1]
+    (word, form), ahead, behind = loops[j], texts[j], texts[j + 1]
+    if kind == "left" and ahead and ahead[-1] == word[-1]:
+        return changed(row, j, ahead[:-1], (word[-1] + word[:-1], form), word[-1] + behind)
+    if kind == "right" and behind and behind[0] == word[0]:
+        return changed(row, j, ahead + word[0], (word[1:] + word[0], form), behind[1:])
+    if kind == "out" and form[0] >= 1:
+        return changed(row, j, ahead, (word, (form[0] - 1,) + form[1:]), word + behind)
+    if kind == "in" and behind[:len(word)] == word:
+        return changed(row, j, ahead, (word, (form[0] + 1,) + form[1:]), behind[len(word):])
+    if kind == "root":
+        shorter = word[:len(word) // move[2]]
+        if shorter and shorter * move[2] == word:
+            return changed(row, j, ahead, (shorter, tuple(move[2] * number for number in form)), behind)
+    if kind == "whole" and not any(number % move[2] for number in form):
+        return changed(row, j, ahead, (word * move[2], tuple(number // move[2] for number in form)), behind)
+    if kind == "join" and behind == "" and j + 1 < len(loops) and loops[j + 1][0] == word:
+        both = tuple(one + other for one, other in zip(form, loops[j + 1][1]))
+        return (k, texts[:j + 1] + texts[j + 2:], loops[:j] + ((word, both),) + loops[j + 2:])
+    if kind == "part" and any(move[2][1:]):
+        left = tuple(whole - piece for whole, piece in zip(form, move[2]))
+        if min(left) >= 0 and any(left[1:]):
+            return (k, texts[:j + 1] + ("",) + texts[j + 1:], loops[:j] + ((word, move[2]), (word, left)) + loops[j + 1:])
+    return None
+
+
+def undoing(row, move):
+    """The move that undoes one that can be made of the row."""
+    kind, j = move[0], move[1]
+    if kind == "join":
+        return ("part", j, row[2][j][1])
+    if kind == "part":
+        return ("join", j)
+    opposite = {"left": "right", "right": "left", "out": "in", "in": "out", "root": "whole", "whole": "root"}
+    return (opposite[kind],) + move[1:]
+
+
+def told_moves(chance, row):
+    """Moves of a row, such as can be made and others."""
+    for j, (_, form) in enumerate(row[2]):
+        for kind in ("left", "right", "out", "in", "join"):
+            yield (kind, j)
+        for n in (2, 3):
+            yield ("root", j, n)
+            yield ("whole", j, n)
+        yield ("part", j, tuple(chance.randint(0, number) for number in form))
+
+
+def row_size(row):
+    """How many letters stand in the texts and words of a row."""
+    return sum(map(len, row[1])) + sum(len(word) for word, _ in row[2])
+
+
+def any_move(chance, row):
+    """A move that can be made of a row, and the row behind it; None if there is none within the limits."""
+    found = [(move, slow_move(row, move)) for move in told_moves(chance, row)]
+    found = [(move, other) for move, other in found
+             if other is not None and len(other[2]) <= 12 and row_size(other) <= 300]
+    if not found:
+        return None
+    # Each kind as often as another one, so that no kind is rare.
+    kind = chance.choice(sorted({move[0] for move, _ in found}))
+    return chance.choice([pair for pair in found if pair[0][0] == kind])
+
+
+def moved_on(chance, row, many):
+    """A row behind so many moves from the row."""
+    for _ in range(many):
+        found = any_move(chance, row)
+        if found is None:
+            return row
+        row = found[1]
+    return row
+
+
+def alike_program(chance, program, many=30):
+    """A program that writes the same texts, written otherwise."""
+    row = moved_on(chance, slow_flat(program), many)
+    parts = [text(row[1][0])]
+    for (word, form), behind in zip(row[2], row[1][1:]):
+        cut = chance.randint(0, len(word))
+        parts += [loop(form, text(word[:cut]), text(word[cut:])), text(behind)]
+    return (row[0], tuple(parts))
+
+
+def spoiled_row(chance, row):
+    """The row with one letter or one number another one."""
+    k, texts, loops = row
+    if loops and chance.random() < 0.7:
+        j = chance.randrange(len(loops))
+        word, form = loops[j]
+        if chance.random() < 0.5:
+            place = chance.randrange(len(word))
+            pair = (word[:place] + chance.choice("ab") + word[place + 1:], form)
+        else:
+            place = chance.randrange(len(form))
+            pair = (word, form[:place] + (form[place] + 1,) + form[place + 1:])
+        return (k, texts, loops[:j] + (pair,) + loops[j + 1:])
+    j = chance.randrange(len(texts))
+    place = chance.randint(0, len(texts[j]))
+    return (k, texts[:j] + (texts[j][:place] + chance.choice("ab") + texts[j][place:],) + texts[j + 1:], loops)
+
+
+def row_parts(row):
+    """A program with this row, told in the plainest way."""
+    parts = [text(row[1][0])]
+    for (word, form), behind in zip(row[2], row[1][1:]):
+        parts += [loop(form, text(word)), text(behind)]
+    return (row[0], tuple(parts))
+
+
+def any_pair(chance, most_counts=2, loops=3):
+    """Two programs with as many counts: alike, nearly alike, or any."""
+    k = chance.randint(0, most_counts)
+    one = row_parts(any_row(chance, k, chance.randint(0, loops) if k else 0, 3))
+    kind = chance.random()
+    if kind < 0.4:
+        return one, alike_program(chance, one)
+    if kind < 0.8:
+        return one, row_parts(spoiled_row(chance, slow_flat(alike_program(chance, one, 10))))
+    return one, row_parts(any_row(chance, k, chance.randint(0, loops) if k else 0, 2))
+
+
+def slow_common(one, other):
+    """How many letters two strings have in common at the beginning."""
+    place = 0
+    while place < min(len(one), len(other)) and one[place] == other[place]:
+        place += 1
+    return place
+
+
+def least_counts(k):
+    """All counts by their sum, then ascending, without end."""
+    total = 0
+    while k or total == 0:
+        yield from (counts for counts in small_counts(k, total) if sum(counts) == total)
+        total += 1
+
+
+def slow_least_parted(one, other):
+    """The least counts at which two programs part, or None if there are none up to the sum that [10] tells."""
+    most = max(1, len(slow_flat(one)[2]) + len(slow_flat(other)[2]))
+    for counts in least_counts(one[0]):
+        if sum(counts) > most:
+            return None
+        if slow_text(one[1], counts) != slow_text(other[1], counts):
+            return counts
+    return None

@@ -6,17 +6,31 @@ import inspect
 import itertools
 import unittest
 
+from everycount.checker import moved, parting
+from everycount.errors import NoMove, NoPlace
+from everycount.programs import is_program, written
+from everycount.rows import flat, is_plain, is_row, plain, row_program
 from tests.samples import deep_loops, holds_list, loop, programs, rows, text
 
 INTERFACE = {
     "programs": {"value_of": ["form", "counts"], "is_program": ["value"], "written": ["program", "counts"]},
     "counting": {"length": ["program"], "letters": ["program", "letter"],
                  "letter_at": ["program", "counts", "place"], "counts_of": ["program", "text"]},
+    "turning": {"joined": ["one", "other"], "mirrored": ["program"], "filled": ["program", "letter", "word"],
+                "repeated": ["program", "number"], "put": ["program", "number", "form"]},
     "rows": {"flat": ["program"], "plain": ["program"], "row_program": ["row"], "is_row": ["value"],
              "is_plain": ["row"]},
+    "verdicts": {"alike": ["one", "other"], "parted_at": ["one", "other"], "least_parted": ["one", "other"],
+                 "renamed": ["one", "other"], "order": ["one", "other"], "shared": ["one", "other"]},
+    "checker": {"parting": ["one", "other", "value"], "moved": ["row", "moves"]},
+    "moves": {"moves": ["one", "other"]},
 }
 
 PROGRAM = (1, (text("a"), loop((2, 0), text("b"), loop((1, 2), text("ab")))))
+TURNS = (1, (loop((0, 1), text("ab")), text("a")))
+TURNED = (1, (text("a"), loop((0, 1), text("ba"))))
+BLOCKS = (1, (loop((0, 1), text("a")), loop((0, 1), text("b")), text("a")))
+ROW = (1, ("a", "b"), (("ba", (2, 1)),))
 
 EXAMPLES = {
     "value_of": {"form": (1, 2, 3), "counts": (4, 5)},
@@ -26,11 +40,25 @@ EXAMPLES = {
     "letters": {"program": PROGRAM, "letter": "b"},
     "letter_at": {"program": PROGRAM, "counts": (2,), "place": 1},
     "counts_of": {"program": PROGRAM, "text": "ababbab"},
+    "joined": {"one": TURNS, "other": BLOCKS},
+    "mirrored": {"program": TURNS},
+    "filled": {"program": TURNS, "letter": "a", "word": "ca"},
+    "repeated": {"program": TURNS, "number": 2},
+    "put": {"program": TURNS, "number": 0, "form": (3,)},
     "flat": {"program": PROGRAM},
     "plain": {"program": PROGRAM},
-    "row_program": {"row": (1, ("a", "b"), (("ba", (2, 1)),))},
-    "is_row": {"value": (1, ("a", "b"), (("ba", (2, 1)),))},
-    "is_plain": {"row": (1, ("a", "b"), (("ba", (2, 1)),))},
+    "row_program": {"row": ROW},
+    "is_row": {"value": ROW},
+    "is_plain": {"row": ROW},
+    "alike": {"one": TURNS, "other": TURNED},
+    "parted_at": {"one": TURNS, "other": BLOCKS},
+    "least_parted": {"one": TURNS, "other": BLOCKS},
+    "renamed": {"one": TURNS, "other": TURNED},
+    "order": {"one": TURNS, "other": BLOCKS},
+    "shared": {"one": TURNS, "other": BLOCKS},
+    "parting": {"one": TURNS, "other": BLOCKS, "value": ((2,), 1)},
+    "moved": {"row": ROW, "moves": (("out", 0),)},
+    "moves": {"one": TURNS, "other": TURNED},
 }
 
 ANSWERS = {
@@ -43,9 +71,27 @@ ANSWERS = {
     "counts_of": ((0,),),
     "flat": (1, ("ab", "b", ""), (("ab", (1, 2)), ("ab", (1, 2)))),
     "plain": (1, ("", "abab", "bab"), (("ab", (0, 2)), ("ba", (0, 2)))),
-    "row_program": (1, (text("a"), loop((2, 1), text("ba")), text("b"))),
     "is_row": True,
     "is_plain": False,
+    "alike": True,
+    "least_parted": (2,),
+    "renamed": (0,),
+    "order": ((0, 0), 1),
+    "shared": ((1, 3), (1, 0)),
+    "parting": True,
+    "moved": (1, ("a", "bab"), (("ba", (1, 1)),)),
+}
+
+# Where the document leaves the result open: what it asks of it.
+OPEN_ANSWERS = {
+    "joined": lambda answer: is_program(answer) and written(answer, (2,)) == "abab" + "a" + "aabb" + "a",
+    "mirrored": lambda answer: is_program(answer) and written(answer, (2,)) == "ababa",
+    "filled": lambda answer: is_program(answer) and written(answer, (2,)) == "cabcabca",
+    "repeated": lambda answer: is_program(answer) and written(answer, (2,)) == "ababaababa",
+    "put": lambda answer: is_program(answer) and written(answer, ()) == "abababa",
+    "row_program": lambda answer: is_program(answer) and flat(answer) == ROW,
+    "parted_at": lambda answer: type(answer) is tuple and parting(TURNS, BLOCKS, answer),
+    "moves": lambda answer: type(answer) is tuple and moved(flat(TURNS), answer) == flat(TURNED),
 }
 
 
@@ -68,29 +114,32 @@ class Interface(unittest.TestCase):
                 self.assertIs(parameter.kind, inspect.Parameter.POSITIONAL_OR_KEYWORD)
                 self.assertIs(parameter.default, inspect.Parameter.empty)
 
+    def check(self, name, answer):
+        if name in ANSWERS:
+            self.assertEqual(answer, ANSWERS[name], name)
+            self.assertIs(type(answer), type(ANSWERS[name]), name)
+        else:
+            self.assertTrue(OPEN_ANSWERS[name](answer), name)
+        self.assertFalse(holds_list(answer), name)
+
     def test_by_position_and_by_name_in_any_order(self):
         for _, name, function, arguments in listed():
             given = EXAMPLES[name]
-            answer = ANSWERS[name]
-            self.assertEqual(function(*[given[argument] for argument in arguments]), answer, name)
+            self.check(name, function(*[given[argument] for argument in arguments]))
             for order in itertools.permutations(arguments):
-                self.assertEqual(function(**{argument: given[argument] for argument in order}), answer, name)
+                self.check(name, function(**{argument: given[argument] for argument in order}))
             for known in range(len(arguments)):
                 first = [given[argument] for argument in arguments[:known]]
                 rest = {argument: given[argument] for argument in reversed(arguments[known:])}
-                self.assertEqual(function(*first, **rest), answer, name)
-
-    def test_kinds_of_values(self):
-        for _, name, function, _ in listed():
-            answer = function(**EXAMPLES[name])
-            self.assertIs(type(answer), type(ANSWERS[name]), name)
-            self.assertFalse(holds_list(answer), name)
+                self.check(name, function(*first, **rest))
 
     def test_same_answer_again(self):
         for _ in range(2):
             for _, name, function, _ in listed():
                 given = copy.deepcopy(EXAMPLES[name])
-                self.assertEqual(function(**given), ANSWERS[name], name)
+                answer = function(**given)
+                self.check(name, answer)
+                self.assertEqual(function(**given), answer)
                 self.assertEqual(given, EXAMPLES[name])
 
 
@@ -98,17 +147,20 @@ class Passing(unittest.TestCase):
     """What one function returns may be passed on to the others."""
 
     def all_answers(self, program):
-        counts = (1,) * program[0]
+        k = program[0]
+        row = flat(program)
+        given = {"program": program, "counts": (1,) * k, "letter": "a", "place": 0, "value": program, "word": "aba",
+                 "number": 0, "one": program, "other": program, "row": row, "moves": ()}
+        if k > 0:
+            given["form"] = (1,) * k
+        left_out = ["value_of", "parting"] + (["order", "shared"] if k != 1 else [])
         answers = []
         for _, name, function, arguments in listed():
-            given = {"program": program, "counts": counts, "letter": "a", "place": 0, "value": program}
-            if set(arguments) <= set(given):
+            if set(arguments) <= set(given) and name not in left_out:
                 answers.append(function(**{argument: given[argument] for argument in arguments}))
         return answers
 
     def test_returned_programs(self):
-        from everycount.programs import is_program
-        from everycount.rows import flat, is_plain, is_row, plain, row_program
         for program in programs(21, 100):
             for row in (flat(program), plain(program)):
                 self.assertIs(is_row(row), True)
@@ -120,8 +172,20 @@ class Passing(unittest.TestCase):
                 self.assertEqual(is_plain(row), row == plain(program))
                 self.assertFalse(holds_list(tuple(self.all_answers(back))))
 
+    def test_results_that_are_no_programs_and_rows(self):
+        """Each result may be passed on as any value: the checks refuse it or take it, and raise nothing else."""
+        for program in programs(23, 30, 1):
+            for answer in self.all_answers(program):
+                self.assertIn(is_program(answer), (True, False))
+                self.assertIn(is_row(answer), (True, False))
+                with self.assertRaises(NoPlace):
+                    parting(program, program, answer)
+                try:
+                    moved(flat(program), answer)
+                except NoMove:
+                    pass
+
     def test_rows_of_any_kind(self):
-        from everycount.rows import is_row, row_program
         for row in rows(22, 100):
             self.assertIs(is_row(row), True)
             self.assertFalse(holds_list(tuple(self.all_answers(row_program(row)))))
