@@ -3,7 +3,7 @@
 
 def is_natural(value):
     """Whether the value is an integer from 0 on; True and False are not integers."""
-    return isinstance(value, int) and not isinstance(value, bool) and value >= 0
+    return isinstance(value, int) and value is not True and value is not False and value >= 0
 
 
 def is_form(value, k):
@@ -15,7 +15,10 @@ def is_form(value, k):
 
 def is_open(form):
     """Whether some factor of the form is not 0."""
-    return any([factor != 0 for factor in form[1:]])
+    for factor in form[1:]:
+        if factor != 0:
+            return True
+    return False
 
 
 def fixed_form(constant, k):
@@ -30,4 +33,16 @@ def sum_of_forms(one, other):
 
 def scaled(form, times):
     """The form whose value is so many times as great."""
+    if times == 1:
+        return form
     return tuple([number * times for number in form])
+
+
+def left_of(form, piece):
+    """What is left of a form when another one is taken from it; None if that one is greater somewhere."""
+    left = []
+    for number, taken in zip(form, piece):
+        if taken > number:
+            return None
+        left.append(number - taken)
+    return tuple(left)

@@ -5,7 +5,7 @@ from itertools import permutations
 from everycount.counting import counts_with_value
 from everycount.programs import value_of
 from everycount.rows import plain
-from everycount.runs import common_letters, run_letter, runs_at
+from everycount.runs import common_letters, order_of, runs_at
 
 
 def alike(one, other):
@@ -43,14 +43,7 @@ def common_at(one, other, counts):
 
 def sign_at(one, other, counts):
     """How the text of one row at counts stands to that of another in a dictionary: -1, 0 or 1."""
-    ours = runs_at(one, counts)
-    theirs = runs_at(other, counts)
-    place = common_letters(ours, theirs)
-    letter = run_letter(ours, place)
-    other_letter = run_letter(theirs, place)
-    if letter == other_letter:
-        return 0
-    return -1 if letter < other_letter else 1
+    return order_of(runs_at(one, counts), runs_at(other, counts))
 
 
 def renamed(one, other):

@@ -2,6 +2,7 @@
 
 import itertools
 import random
+import re
 
 
 def text(word):
@@ -334,3 +335,102 @@ def slow_least_parted(one, other):
         if slow_text(one[1], counts) != slow_text(other[1], counts):
             return counts
     return None
+
+
+def slow_count(told, word):
+    """At how many places of a string the word begins."""
+    return sum(told.startswith(word, place) for place in range(len(told)))
+
+
+def slow_held(program, word):
+    """At which small counts the word stands in the text: a dict of True and False."""
+    counts = small_counts(program[0], len(word) + 1)
+    return {each: word in slow_text(program[1], each) for each in counts}
+
+
+def any_part_of(chance, told, size):
+    """A word of this size that stands in the string, or any if it has less letters."""
+    if len(told) < size:
+        return any_word(chance, size, size)
+    place = chance.randint(0, len(told) - size)
+    return told[place:place + size]
+
+
+def slow_terms(told, k, is_open):
+    """The form of its terms, or None if the string is none."""
+    if told == "0":
+        return (0,) * (k + 1)
+    form, seen = [0] * (k + 1), 0
+    for term in told.split("+"):
+        match = re.fullmatch("([1-9][0-9]{0,599})?([nmp]?)", term)
+        if match is None or term == "":
+            return None
+        number, count = match.groups()
+        # The constant stands behind all counts.
+        place = "nmp"[:k].find(count) + 1 if count else k + 1
+        if place <= seen or count and (number == "1" or not is_open):
+            return None
+        form[place if count else 0] = int(number or 1)
+        seen = place
+    return tuple(form)
+
+
+def slow_read(told, k, depth=25, is_open=True):
+    """The parts of a program's text, or None if the string is none: bracket by bracket."""
+    parts = []
+    while told:
+        word = re.match("[a-z]*", told).group()
+        if word:
+            parts.append(text(word))
+            told = told[len(word):]
+            continue
+        end = closing(told)
+        if depth == 0 or end is None or ":" not in told[:end]:
+            return None
+        terms, _, inner = told[1:end].partition(":")
+        form = slow_terms(terms, k, is_open)
+        inner = None if form is None else slow_read(inner, k, depth - 1, is_open and not any(form[1:]))
+        if inner is None:
+            return None
+        parts.append(("loop", form, inner))
+        told = told[end + 1:]
+    return tuple(parts)
+
+
+def closing(told):
+    """Where the bracket closes that the string begins with, or None."""
+    depth = 0
+    for place, sign in enumerate(told):
+        depth += (sign == "(") - (sign == ")")
+        if depth <= 0:
+            return place if sign == ")" and place else None
+    return None
+
+
+def can_go_on(told, k):
+    """Whether some text of a program begins with the string: it can then be ended in one of three ways."""
+    brackets = ")" * (told.count("(") - told.count(")"))
+    return any(slow_read(told + ending + brackets, k) is not None for ending in ("", ":", "7:"))
+
+
+def slow_fault(told, k):
+    """The first place at which no text of a program goes on, or None if the string is one."""
+    if slow_read(told, k) is not None:
+        return None
+    size = 0
+    while size < len(told) and can_go_on(told[:size + 1], k):
+        size += 1
+    return size
+
+
+def merged(parts):
+    """The parts without empty texts, and those that stand side by side as one."""
+    found = []
+    for part in parts:
+        if part[0] == "loop":
+            found.append(("loop", part[1], merged(part[2])))
+        elif part[1] and found and found[-1][0] == "text":
+            found[-1] = text(found[-1][1] + part[1])
+        elif part[1]:
+            found.append(part)
+    return tuple(found)

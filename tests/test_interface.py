@@ -6,10 +6,13 @@ import inspect
 import itertools
 import unittest
 
+from everycount import errors
 from everycount.checker import moved, parting
 from everycount.errors import NoMove, NoPlace
+from everycount.longs import Long
 from everycount.programs import is_program, written
 from everycount.rows import flat, is_plain, is_row, plain, row_program
+from everycount.texts import program_text, read_program
 from tests.samples import deep_loops, holds_list, loop, programs, rows, text
 
 INTERFACE = {
@@ -24,7 +27,18 @@ INTERFACE = {
                  "renamed": ["one", "other"], "order": ["one", "other"], "shared": ["one", "other"]},
     "checker": {"parting": ["one", "other", "value"], "moved": ["row", "moves"]},
     "moves": {"moves": ["one", "other"]},
+    "rests": {"rest": ["one", "other"], "power": ["program"]},
+    "holding": {"may_hold": ["program", "word"], "must_hold": ["program", "word"], "held_at": ["program", "word"],
+                "often": ["program", "word"]},
+    "texts": {"program_text": ["program"], "read_program": ["text", "k"]},
 }
+
+ERRORS = {"TooLong": "length", "Unused": "number", "NoPlace": "word", "NoMove": "number", "NoLetter": "place",
+          "BadText": "place"}
+
+METHODS = {"letter": ["i"], "part": ["begin", "end"], "common": ["y"], "find": ["word", "begin"], "count": ["word"],
+           "text": []}
+OPERATORS = ("__add__", "__eq__", "__ne__", "__lt__", "__le__", "__gt__", "__ge__")
 
 PROGRAM = (1, (text("a"), loop((2, 0), text("b"), loop((1, 2), text("ab")))))
 TURNS = (1, (loop((0, 1), text("ab")), text("a")))
@@ -59,6 +73,14 @@ EXAMPLES = {
     "parting": {"one": TURNS, "other": BLOCKS, "value": ((2,), 1)},
     "moved": {"row": ROW, "moves": (("out", 0),)},
     "moves": {"one": TURNS, "other": TURNED},
+    "rest": {"one": TURNS, "other": (1, (text(""), loop((0, 1), text("ab"))))},
+    "power": {"program": (1, TURNS[1] + TURNS[1])},
+    "may_hold": {"program": BLOCKS, "word": "bba"},
+    "must_hold": {"program": BLOCKS, "word": "bba"},
+    "held_at": {"program": BLOCKS, "word": "bba"},
+    "often": {"program": BLOCKS, "word": "aa"},
+    "program_text": {"program": PROGRAM},
+    "read_program": {"text": "a(2:b(2n+1:ab))", "k": 1},
 }
 
 ANSWERS = {
@@ -80,6 +102,13 @@ ANSWERS = {
     "shared": ((1, 3), (1, 0)),
     "parting": True,
     "moved": (1, ("a", "bab"), (("ba", (1, 1)),)),
+    "rest": (1, ("a",), ()),
+    "power": ((1, ("", "a"), (("ab", (0, 1)),)), 2),
+    "may_hold": True,
+    "must_hold": False,
+    "often": (-1, 1),
+    "program_text": "a(2:b(2n+1:ab))",
+    "read_program": PROGRAM,
 }
 
 # Where the document leaves the result open: what it asks of it.
@@ -92,6 +121,7 @@ OPEN_ANSWERS = {
     "row_program": lambda answer: is_program(answer) and flat(answer) == ROW,
     "parted_at": lambda answer: type(answer) is tuple and parting(TURNS, BLOCKS, answer),
     "moves": lambda answer: type(answer) is tuple and moved(flat(TURNS), answer) == flat(TURNED),
+    "held_at": lambda answer: answer in ((2,), (3,)),
 }
 
 
@@ -143,6 +173,36 @@ class Interface(unittest.TestCase):
                 self.assertEqual(given, EXAMPLES[name])
 
 
+class Classes(unittest.TestCase):
+    def test_errors(self):
+        for name, attribute in ERRORS.items():
+            kind = getattr(errors, name)
+            self.assertEqual(kind.__bases__, (errors.CountError,))
+            self.assertEqual(kind.__module__, "everycount.errors")
+            for value in (3, -1, None, "ahead", (1, ["a"]), 10 ** 599):
+                self.assertEqual(vars(kind(value)), {attribute: value})
+                self.assertEqual(vars(kind(**{attribute: value})), {attribute: value})
+        self.assertEqual(errors.CountError.__bases__, (ValueError,))
+
+    def test_long(self):
+        self.assertEqual((Long.__module__, list(inspect.signature(Long).parameters)), ("everycount.longs", ["program", "counts"]))
+        self.assertIsInstance(vars(Long)["size"], property)
+        for name, arguments in METHODS.items():
+            self.assertEqual(list(inspect.signature(vars(Long)[name]).parameters), ["self"] + arguments)
+        for name in OPERATORS:
+            self.assertIn(name, vars(Long))
+
+    def test_long_by_position_and_by_name(self):
+        x, y = Long(PROGRAM, (2,)), Long(counts=(1,), program=PROGRAM)
+        self.assertEqual((x.text(), y.text()), ("a" + ("b" + "ab" * 5) * 2, "a" + ("b" + "ab" * 3) * 2))
+        for _ in range(2):
+            self.assertEqual((x.letter(3), x.letter(i=3)), ("b", "b"))
+            self.assertEqual([part.text() for part in (x.part(1, 3), x.part(1, end=3), x.part(end=3, begin=1))], ["ba"] * 3)
+            self.assertEqual((x.common(y), x.common(y=y)), (8, 8))
+            self.assertEqual((x.find("bb", 0), x.find("bb", 12), x.count("bb")), (11, None, 1))
+            self.assertEqual((x.size, (x + y).size), (23, 38))
+
+
 class Passing(unittest.TestCase):
     """What one function returns may be passed on to the others."""
 
@@ -154,7 +214,7 @@ class Passing(unittest.TestCase):
         if k > 0:
             given["form"] = (1,) * k
         left_out = ["value_of", "parting"] + (["order", "shared"] if k != 1 else [])
-        answers = []
+        answers = [Long(program, (1,) * k).text(), read_program(program_text(program), k)]
         for _, name, function, arguments in listed():
             if set(arguments) <= set(given) and name not in left_out:
                 answers.append(function(**{argument: given[argument] for argument in arguments}))

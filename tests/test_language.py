@@ -61,6 +61,15 @@ def own_names(tree):
             yield node.id
 
 
+def is_plainly_a_number(node):
+    """Whether the file shows that this is a number: a literal, a length, or a sum of such."""
+    if isinstance(node, ast.BinOp) and isinstance(node.op, ast.Add):
+        return is_plainly_a_number(node.left) and is_plainly_a_number(node.right)
+    if isinstance(node, ast.Call):
+        return isinstance(node.func, ast.Name) and node.func.id in ("len", "int", "ord")
+    return isinstance(node, ast.Constant) and isinstance(node.value, int)
+
+
 class Language(unittest.TestCase):
     def test_files(self):
         names = [os.path.relpath(path, PACKAGE) for path in files()]
@@ -176,6 +185,30 @@ class Language(unittest.TestCase):
             for node in ast.walk(tree):
                 if isinstance(node, ast.Call) and isinstance(node.func, ast.Attribute):
                     self.assertIn(node.func.attr, METHODS | own | {"__init__"}, (name, node.lineno))
+
+    def test_decorators(self):
+        """Just properties, which change nothing and call nothing."""
+        for name, _, tree in trees():
+            for node in ast.walk(tree):
+                if isinstance(node, ast.FunctionDef) and node.decorator_list:
+                    self.assertEqual([ast.unparse(each) for each in node.decorator_list], ["property"], name)
+                    self.assertFalse([each for each in ast.walk(node) if isinstance(each, (ast.Call, ast.Assign))], name)
+
+    def test_what_is_compared_beside_a_class_that_compares(self):
+        for name, _, tree in trees():
+            for node in ast.walk(tree):
+                if isinstance(node, ast.Call) and isinstance(node.func, ast.Name) and node.func.id in ("sorted", "min", "max"):
+                    self.assertTrue(any(is_plainly_a_number(each) for each in node.args), (name, node.lineno))
+                if isinstance(node, ast.Call) and isinstance(node.func, ast.Attribute):
+                    self.assertNotEqual(node.func.attr, "sort", (name, node.lineno))
+
+    def test_operators_change_nothing(self):
+        for name, _, tree in trees():
+            for node in ast.walk(tree):
+                if isinstance(node, ast.FunctionDef) and node.name.startswith("__") and node.name != "__init__":
+                    for each in ast.walk(node):
+                        self.assertNotIsInstance(each, (ast.Assign, ast.AugAssign, ast.Delete), (name, node.name))
+                    self.assertIsInstance(node.body[-1], ast.Return, (name, node.name))
 
     def test_errors_are_raised_and_caught_by_name(self):
         for name, _, tree in trees():
