@@ -1,6 +1,6 @@
 """Moves that lead from the flat row of a program to that of another one."""
 
-from everycount.checker import MovingRow, make_move
+from everycount.moving import MovingRow, form_of, make_moves
 from everycount.rows import flat
 
 
@@ -29,17 +29,17 @@ def steps_to_plain(moving):
             j += 1
         else:
             steps.append((move, undoing_move(moving, move)))
-            make_move(moving, move)
+            make_moves(moving, (move,))
     return steps
 
 
 def next_move(moving, j):
     """A move that makes a moving row plainer at the loop j; None if it is plain up to there."""
-    root, times, form = moving.loops[j]
+    root, times, constant, _ = moving.loops[j]
     ahead = moving.texts[j]
     if times > 1:
         return ("root", j, times)
-    if form[0] > 0:
+    if constant > 0:
         return ("out", j)
     if ahead != "" and ahead[-1] == root[-1]:
         return ("left", j)
@@ -57,4 +57,4 @@ def undoing_move(moving, move):
         return ("in", j)
     if move[0] == "left":
         return ("right", j)
-    return ("part", j, moving.loops[j][2])
+    return ("part", j, form_of(moving.loops[j]))

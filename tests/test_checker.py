@@ -3,9 +3,11 @@
 import copy
 import random
 import unittest
+from unittest import mock
 
 from everycount.checker import moved, parting
 from everycount.errors import CountError, NoMove, NoPlace
+from everycount.moving import make_moves
 from everycount.rows import flat, plain
 from tests.samples import (any_move, any_pair, any_row, holds_list, loop, programs, row_parts, row_text, slow_move,
                            slow_text, small_counts, told_moves, text, undoing)
@@ -32,6 +34,20 @@ def refusal(one, other, value):
         return parting(one, other, value)
     except NoPlace as error:
         return error.word
+
+
+def slow_refused(row, move):
+    """Whether a tuple is no move of the row, told by the kinds of its parts and by a slow reading of [12]."""
+    if len(move) < 2 or type(move[1]) is not int or not 0 <= move[1] < len(row[2]):
+        return True
+    if move[0] not in ("root", "whole", "part"):
+        return len(move) != 2 or move[0] not in ("left", "right", "out", "in", "join") or slow_move(row, move) is None
+    if len(move) != 3 or move[0] == "part" and (type(move[2]) is not tuple or len(move[2]) != row[0] + 1):
+        return True
+    numbers = move[2] if move[0] == "part" else (move[2],)
+    if not all(type(number) is int and number >= 0 for number in numbers) or move[0] != "part" and move[2] < 2:
+        return True
+    return slow_move(row, move) is None
 
 
 def slow_refusal(one, other, counts, place):
@@ -384,6 +400,120 @@ class Moved(unittest.TestCase):
                       ("in", 0))
         self.assertEqual(moved(row, round_trip * 2500), row)
         self.check_refused(row, round_trip * 2499 + (("left", 1),), 2499 * 8)
+
+    def rounds(self):
+        """Rows and moves there and back of several kinds, short ones and long ones, each of which can be made."""
+        row = (2, ("ab" * 50, "", "ba" * 50), (("ab", (2, 4, 0)), ("ab", (1, 0, 6))))
+        other = (2, ("ab" * 50, "", "ab" * 50), row[2])
+        for start, kind, back, j in ((row, "left", "right", 0), (other, "right", "left", 1), (row, "out", "in", 0),
+                                     (row, "out", "in", 1), (other, "in", "out", 1)):
+            yield start, ((kind, j), (back, j))
+        yield row, (("whole", 0, 2), ("root", 0, 2))
+        yield (1, ("", ""), (("abab", (3, 1)),)), (("root", 0, 2), ("whole", 0, 2))
+        yield row, (("join", 0), ("part", 0, (2, 4, 0)))
+        yield row, (("part", 0, (1, 1, 0)), ("join", 0))
+        yield row, (("part", 1, (1, 0, 1)), ("join", 1))
+        yield row, (("out", 0), ("out", 0), ("in", 0), ("left", 0), ("right", 0), ("in", 0), ("out", 1), ("in", 1))
+        yield row, (("join", 0), ("out", 0), ("left", 0), ("right", 0), ("in", 0), ("part", 0, (2, 4, 0)), ("whole", 0, 2),
+                    ("left", 0), ("right", 0), ("root", 0, 2))
+        yield row, (("left", 0),) * 100 + (("right", 0),) * 100
+        yield row, (("left", 0),) * 7 + (("right", 0),) * 7 + (("out", 0), ("in", 0))
+
+    def wrong_ends(self, row):
+        """Moves that cannot be made of the row, also such as are equal to others that can be made, to Python."""
+        yield from (("join", 1), ("left", 2), ("out", -1), ("root", 0, 3), ("part", 0, (3, 0, 0)), None, ["out", 0], ("out",),
+                    ("whole", 0, 1), ("turn", 0), ("out", 0, 2), ("part", 0, [1, 1, 0]), "left")
+        for j, truth in ((0, False), (1, True)):
+            yield from ((kind, truth) for kind in ("left", "right", "out", "in", "join"))
+            yield from ((kind, truth, 2) for kind in ("root", "whole"))
+            yield ("part", truth, (1, 1, 0))
+        yield from (("part", 0, form) for form in ((True, 1, 0), (1, True, 0), (1, 1, False)))
+
+    def test_thousands_of_moves_and_one_that_cannot_be_made(self):
+        for row, told in self.rounds():
+            for many in (5200, 17200):
+                moves = (told * (many // len(told) + 1))[:many // len(told) * len(told)]
+                self.assertEqual(moved(row, moves), row)
+                self.check_refused(row, moves + (("left", 9),), len(moves))
+                self.check_refused(row, moves + (("left", 9),) + told, len(moves))
+            for wrong in self.wrong_ends(row):
+                if not isinstance(wrong, tuple) or slow_refused(row, wrong):
+                    self.check_refused(row, told * 400 + (wrong,) + told * 400, 400 * len(told))
+
+    def test_calls_that_took_too_long(self):
+        for word in ("a", "b", "ab", "aab", "abc"):
+            row = (1, ("", ""), ((word, (1, 1)),))
+            there = (("out", 0), ("in", 0)) * 8599
+            self.assertEqual(moved(row, there), row)
+            self.check_refused(row, there + (("join", 0),), 17198)
+            self.check_refused(row, there + (("out", 0), ("out", 0)), 17199)
+            self.assertEqual(moved(row, there + (("out", 0),)), (1, ("", word), ((word, (0, 1)),)))
+
+    def test_truth_in_the_place_of_a_number(self):
+        """Among moves told again and again, a move with True or False is found wherever it stands."""
+        row = (2, ("", "", ""), (("ab", (1, 3, 0)), ("ab", (1, 0, 6))))
+        told = (("out", 1), ("in", 1), ("part", 0, (1, 1, 0)), ("join", 0), ("whole", 1, 3), ("root", 1, 3)) * 1000
+        row = (2, ("", "", ""), (("ab", (1, 3, 0)), ("ab", (3, 0, 6))))
+        self.assertEqual(moved(row, told), row)
+        wrong = {0: ("out", True), 1: ("in", True), 2: ("part", 0, (True, 1, 0)), 3: ("join", False), 4: ("whole", True, 3),
+                 5: ("root", True, 3)}
+        others = {2: [("part", False, (1, 1, 0)), ("part", 0, (1, True, 0)), ("part", 0, (1, 1, False))]}
+        chance = random.Random(184)
+        for place in list(range(14)) + [chance.randrange(6000) for _ in range(120)]:
+            for move in [wrong[place % 6]] + others.get(place % 6, []):
+                self.assertEqual(move, told[place])
+                self.check_refused(row, told[:place] + (move,) + told[place + 1:], place)
+                self.check_refused(row, told[:place] + (move,), place)
+
+    def test_moves_told_again_from_another_row(self):
+        """The same moves, told again, lead on where they have not led back."""
+        row = (1, ("", ""), (("ab", (5000, 1)),))
+        self.assertEqual(moved(row, (("out", 0),) * 4999), (1, ("", "ab" * 4999), (("ab", (1, 1)),)))
+        self.check_refused(row, (("out", 0),) * 5002, 5000)
+        self.assertEqual(moved(row, (("out", 0), ("out", 0), ("in", 0)) * 4000), (1, ("", "ab" * 4000), (("ab", (1000, 1)),)))
+        self.check_refused(row, (("out", 0), ("out", 0), ("in", 0)) * 5001, 3 * 4999 + 1)
+        # Here all texts are what they have been, but not the loop.
+        row = (1, ("ab", "ab"), (("ab", (0, 4 ** 9)),))
+        for pairs in (58, 59, 118, 119):
+            told = (("left", 0), ("right", 0)) * pairs + (("whole", 0, 2),) * 2
+            for many in range(10):
+                self.assertEqual(moved(row, told * many), (1, ("ab", "ab"), (("ab" * 4 ** many, (0, 4 ** (9 - many))),)))
+            self.check_refused(row, told * 10, 10 * len(told) - 2)
+        row = (1, ("", ""), (("ab", (5000, 1)),))
+        there = (("out", 0),) * 300 + (("out", 0), ("in", 0)) * 700
+        self.assertEqual(moved(row, there + there), (1, ("", "ab" * 600), (("ab", (4400, 1)),)))
+        self.check_refused(row, there * 3 + (("in", 0),) * 901, 3 * len(there) + 900)
+
+    def test_any_ways_there_and_back(self):
+        """Ways of any moves from a row and back to it, again and again, each as often as by chance."""
+        chance = random.Random(185)
+        for program in programs(186, 60):
+            row = flat(program)
+            told = ()
+            for _ in range(chance.randint(1, 4)):
+                way, back, now = [], [], row
+                for _ in range(chance.randint(1, 12)):
+                    found = any_move(chance, now)
+                    if found is None:
+                        break
+                    way.append(found[0])
+                    back.append(undoing(now, found[0]))
+                    now = found[1]
+                told += tuple(way + back[::-1]) * chance.randint(1, 60)
+            self.assertEqual(moved(row, told), row)
+            self.check_refused(row, told + (("out", True),), len(told))
+            size = chance.randint(0, len(told))
+            self.check_refused(row, told[:size] + (("in", 12),) + told, size)
+            if now != row:
+                self.assertEqual(moved(row, told + tuple(way)), now)
+
+    def test_moves_that_are_told_again_are_not_made_again(self):
+        """Rounds that lead back to the row are not gone through thousands of times."""
+        row = (2, ("ab" * 50, "", "ba" * 50), (("ab", (2, 4, 0)), ("ab", (1, 0, 6))))
+        for told in ((("out", 0), ("in", 0)), (("left", 0), ("right", 0)), (("left", 0),) * 20 + (("right", 0),) * 20):
+            with mock.patch("everycount.checker.make_moves", side_effect=make_moves) as made:
+                self.assertEqual(moved(row, (("out", 1),) + told * (16000 // len(told))), moved(row, (("out", 1),)))
+            self.assertLess(sum(len(call.args[1]) for call in made.call_args_list), 2000)
 
     def test_part_again_and_again(self):
         row = (1, ("", ""), (("ab", (0, 10 ** 6)),))
